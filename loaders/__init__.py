@@ -1,0 +1,1 @@
+"""Loaders: classes looked up, linked, and set up once."""
