@@ -4,7 +4,7 @@ Errors don't show what was handed in: not everything can be shown (numbers of ve
 """
 
 from loaders.errors import NoClass, NoLoader
-from loaders.files import checked, is_number, is_word, names_on
+from loaders.files import checked, is_number, is_tuple, is_word, names_on
 
 
 def checked_loader(world, loader):
@@ -62,3 +62,32 @@ def classes(world):
 
 def shadowed(world):
     return [thing for thing in filed(checked(world)) if not is_found(world, thing)]
+
+
+# The kind of each part is asked ahead of any comparing: (False, name) would equal (0, name).
+def is_class(world, thing):
+    if not is_tuple(thing, 2, 2) or not is_number(thing[0], 0, len(world) - 1):
+        return False
+    return is_word(thing[1]) and is_found(world, thing)
+
+
+# The world was checked by whoever calls this.
+def class_in(world, thing):
+    if not is_class(world, thing):
+        raise NoClass("this world has no such class")
+    return thing
+
+
+def checked_class(world, thing):
+    return class_in(checked(world), thing)
+
+
+def file_of(world, thing):
+    shelf = world[thing[0]][1]
+    return shelf[names_on(shelf).index(thing[1])]
+
+
+# None for a class whose file names nothing above it, and where that name is not found.
+def class_above(world, thing):
+    above = file_of(world, thing)[2]
+    return None if above is None else found(world, thing[0], above)

@@ -1,5 +1,7 @@
 """Worlds and things that several tests hand in."""
 
+NO_WORLDS = ((), [], None, 1, "world", {}, ((0, ()),), ((None, ()),) * 5, [(None, ())])
+
 
 def some_class(name, above=None, faces=(), rows=()):
     return ("class", name, above, faces, rows)
@@ -9,8 +11,12 @@ def some_face(name, faces=(), rows=()):
     return ("face", name, None, faces, rows)
 
 
+def one_shelf(*files):
+    return ((None, files),)
+
+
 def world_of_file(file):
-    return ((None, (file,)),)
+    return one_shelf(file)
 
 
 def world_of_row(row):
@@ -100,3 +106,64 @@ def wrong_everywhere():
         b"a", range(2), Plain(), Plain, len, Prickly(),
         (None,), (True,), ([],), ((),), (None, None, None, None, None, None), ("a", 1),
     ]
+
+
+def check_new_lists(case, told):
+    """What told tells is a list, not empty, and one that is changed changes no later one."""
+    first = told()
+    case.assertIsInstance(first, list)
+    kept = list(first)
+    first.append("more")
+    first[0] = "other"
+    case.assertEqual(told(), kept)
+    first.clear()
+    case.assertEqual(told(), kept)
+    case.assertIsNot(told(), told())
+
+
+def no_classes(world, thing):
+    """Made anew each time; none of these is a class of the world. The thing is one."""
+    wrong = wrong_everywhere()
+    wrong.extend(replaced(thing, (place,), part) for place in (0, 1) for part in wrong_everywhere())
+    wrong.extend([
+        None, thing[0], thing[1], list(thing), thing + (0,), thing[:1], (), (thing,), (thing[1], thing[0]),
+        (len(world), thing[1]), (-1, thing[1]), (None, thing[1]), (thing[0], "none"), (thing[0], None),
+    ])
+    return wrong
+
+
+NAMES = "abcde"
+FIELDS = "xy"
+
+
+def random_row(chance, names):
+    kind = chance.choice(("put", "read", "read", "need", "need", "need", "note", "fail"))
+    field = chance.choice(FIELDS)
+    if kind == "put":
+        return (kind, field, chance.randrange(1, 100))
+    if kind == "read":
+        return (kind, field, chance.choice(names), chance.choice(FIELDS))
+    if kind == "need":
+        return (kind, chance.choice(names))
+    return (kind, chance.choice(("one", "two"))) if kind == "note" or chance.random() < 0.3 else ("note", "three")
+
+
+def random_file(chance, name, names):
+    kind = chance.choice(("class", "class", "face"))
+    above = chance.choice(names) if names and kind == "class" and chance.random() < 0.4 else None
+    faces = tuple(chance.sample(names, min(len(names), chance.choice((0, 0, 0, 1, 2)))))
+    rows = tuple(random_row(chance, names) for number in range(chance.randrange(6))) if names else (("put", "x", 9),)
+    return (kind, name, above, faces, rows)
+
+
+def random_world(chance, rings):
+    """The chance is a random.Random with a seed. Without rings, files name only names ahead of their own."""
+    loaders = []
+    for number in range(chance.randrange(1, 5)):
+        parent = chance.choice([None] + 2 * list(range(number)))
+        shelf = [
+            random_file(chance, name, NAMES + "n" if rings else NAMES[:NAMES.index(name)])
+            for name in chance.sample(NAMES, chance.randrange(5))
+        ]
+        loaders.append((parent, tuple(shelf)))
+    return tuple(loaders)

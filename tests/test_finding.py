@@ -4,10 +4,9 @@ import unittest
 from loaders.errors import NoClass, NoLoader, NoWorld
 from loaders.finding import asked, classes, find, shadowed
 from samples import (
-    full_world, places, replaced, some_class, some_face, world_of_names, wrong_everywhere,
+    NO_WORLDS, check_new_lists, full_world, places, replaced, some_class, some_face, world_of_names,
+    wrong_everywhere,
 )
-
-NO_WORLDS = ((), [], None, 1, "world", {}, ((0, ()),), ((None, ()),) * 5, [(None, ())])
 
 
 def line_world():
@@ -294,14 +293,7 @@ class NothingChangedOrKept(unittest.TestCase):
     def test_told_lists_are_new_ones(self):
         world = line_world()
         for told in (lambda: asked(world, 3), lambda: classes(world), lambda: shadowed(world)):
-            first = told()
-            kept = list(first)
-            first.append("more")
-            first[0] = "other"
-            self.assertEqual(told(), kept)
-            first.clear()
-            self.assertEqual(told(), kept)
-            self.assertIsNot(told(), told())
+            check_new_lists(self, told)
 
     def test_equal_worlds_give_equal_answers(self):
         self.assertEqual(asked(line_world(), 3), asked(line_world(), 3))

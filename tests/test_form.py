@@ -35,6 +35,9 @@ WORDS = re.compile(
     r"\b(type|typing|typing_extensions|enum|Enum|IntEnum|StrEnum|Flag|IntFlag|Generic|Protocol|ABC|ABCMeta|"
     r"namedtuple|NamedTuple|TypedDict|TYPE_CHECKING|abstractmethod)\b|dataclass|overload|contextmanager"
 )
+# A value of an object may bear these names of L26, though Python's own values have them too.
+FREE_VALUES = set("count index title find get join lower upper split strip copy add".split())
+OWN_KINDS = (str, int, list, dict, set, bytes)
 DUNDERS = ("__init__", "__eq__", "__repr__", "__str__", "__len__")
 
 
@@ -175,6 +178,37 @@ class Form(unittest.TestCase):
                 if isinstance(node, ast.arg):
                     with self.subTest(stem, name=node.arg):
                         self.assertFalse(hasattr(builtins, node.arg))
+
+    def test_locals_are_not_called_like_imports_and_classes(self):
+        """L15"""
+        for stem, tree in trees().items():
+            taken = [alias.name for part in tree.body if isinstance(part, ast.ImportFrom) for alias in part.names]
+            taken += [part.name for part in tree.body if isinstance(part, ast.ClassDef)]
+            for node in ast.walk(tree):
+                if isinstance(node, ast.Name) and not isinstance(node.ctx, ast.Load):
+                    with self.subTest(stem, name=node.id):
+                        self.assertNotIn(node.id, taken)
+                        self.assertFalse(hasattr(builtins, node.id))
+                if isinstance(node, ast.arg):
+                    with self.subTest(stem, name=node.arg):
+                        self.assertNotIn(node.arg, taken)
+
+    def test_values_and_methods_of_objects(self):
+        """L18, L26"""
+        methods = [part.name for where, node in nodes(ast.ClassDef) for part in node.body if hasattr(part, "name")]
+        for where, node in nodes(ast.Attribute):
+            if not isinstance(node.ctx, ast.Load):
+                with self.subTest(where):
+                    self.assertIsInstance(node.value, ast.Name)
+                    self.assertNotIn(node.attr, methods)
+                    self.assertFalse(
+                        node.attr not in FREE_VALUES and any(hasattr(kind, node.attr) for kind in OWN_KINDS)
+                    )
+
+    def test_no_two_lambdas_on_a_line(self):
+        """L13"""
+        places = [where for where, node in nodes(ast.Lambda)]
+        self.assertEqual(len(places), len(set(places)))
 
     def test_methods(self):
         """L25"""
