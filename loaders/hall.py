@@ -43,12 +43,10 @@ class Hall:
     def stuck(self):
         return [number for number in range(len(self.hands)) if is_stuck(self, number)]
 
-    # Sorted, so that halls that are alike are told alike, whatever came first in them.
     def saved(self):
         hands = tuple([saved_hand(hand) for hand in self.hands])
-        states = tuple(sorted(self.states.items()))
-        fields = tuple(sorted(self.fields.items()))
-        return (self.world, hands, states, fields, tuple(self.noted))
+        became = what_became(self)
+        return (self.world, hands, became[0], became[1], tuple(self.noted))
 
 
 def number_in(hall, number):
@@ -73,6 +71,12 @@ def is_stuck(hall, number):
         if at is None or at == number:
             return at == number
     return False
+
+
+# Classes that are not new, and fields that were given numbers. Sorted, so that halls that are alike are told
+# alike, whatever came first in them.
+def what_became(hall):
+    return (tuple(sorted(hall.states.items())), tuple(sorted(hall.fields.items())))
 
 
 def woken(thing):

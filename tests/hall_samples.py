@@ -1,7 +1,8 @@
 """What several tests of halls use."""
 
 from loaders.finding import classes
-from samples import one_shelf, some_class
+from loaders.hall import Hall, woken
+from samples import NAMES, one_shelf, places, replaced, some_class, wrong_everywhere
 
 NEW = ("new",)
 READY = ("ready",)
@@ -31,6 +32,35 @@ def view(hall, world, hands):
     )
 
 
+def all_idle(hall, hands):
+    return all([hall.is_idle(hand) for hand in range(hands)])
+
+
+def all_halls(world, needs):
+    """The list of what the halls to which some order leads save, each once."""
+    first = Hall(world, needs).saved()
+    seen = {first: True}
+    waiting = [first]
+    while waiting:
+        saved = waiting.pop()
+        for hand in range(len(needs)):
+            hall = woken(saved)
+            hall.step(hand)
+            if hall.saved() not in seen:
+                seen[hall.saved()] = True
+                waiting.append(hall.saved())
+    return list(seen)
+
+
+def random_needs(chance, world, hands, least=1, most=2):
+    """The chance is a random.Random with a seed; least and most tell how many needs a hand has."""
+    names = [name for loader, name in classes(world)] * 4 + [NAMES[0]]
+    return tuple(
+        tuple((chance.randrange(len(world)), chance.choice(names)) for need in range(chance.randrange(least, most + 1)))
+        for hand in range(hands)
+    )
+
+
 def crossed_world():
     """a needs b and b needs a: two hands that begin one each wait for one another."""
     return one_shelf(
@@ -42,6 +72,16 @@ def crossed_world():
 
 def crossed_needs():
     return (((0, "a"),), ((0, "b"),))
+
+
+def wrong_needs():
+    """Made anew each time; none of these are needs, in a world of one loader."""
+    # One hand without needs is right.
+    wrong = [thing for thing in wrong_everywhere() if thing.__class__ is not tuple or thing != ((),)]
+    wrong.extend([None, (), [], crossed_needs()[0], list(crossed_needs()), crossed_needs() * 2])
+    for path in places(crossed_needs())[1:]:
+        wrong.extend(replaced(crossed_needs(), path, thing) for thing in wrong_everywhere() + [None])
+    return wrong
 
 
 def turning_world():

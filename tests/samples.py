@@ -167,3 +167,17 @@ def random_world(chance, rings):
         ]
         loaders.append((parent, tuple(shelf)))
     return tuple(loaders)
+
+
+def needy_world(chance):
+    """A world of classes that need and read of one another, so that hands are often stuck."""
+    names = NAMES[:chance.randrange(2, 5)]
+    files = []
+    for name in names:
+        other = chance.choice(names.replace(name, ""))
+        rows = [("read", "x", other, "x") if chance.random() < 0.5 else ("need", other)]
+        rows.insert(chance.randrange(2), ("put", "x", chance.randrange(3)))
+        if chance.random() < 0.2:
+            rows.append(("fail", "worn"))
+        files.append(some_class(name, None, (), tuple(rows)))
+    return one_shelf(*files)

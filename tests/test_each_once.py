@@ -3,7 +3,9 @@
 import random
 import unittest
 
-from hall_samples import NEW, READY, crossed_needs, crossed_world, turning_needs, turning_world, until_idle
+from hall_samples import (
+    NEW, READY, all_halls, all_idle, crossed_needs, crossed_world, random_needs, turning_needs, turning_world, until_idle,
+)
 from loaders.finding import classes
 from loaders.hall import Hall, woken
 from loaders.needs import ring
@@ -44,26 +46,16 @@ def end_of(hall, world):
     return [(thing, hall.state(thing), [hall.field(thing, name) for name in FIELDS]) for thing in classes(world)]
 
 
-def all_idle(hall, hands):
-    return all([hall.is_idle(hand) for hand in range(hands)])
-
-
 def walk_all_orders(world, needs, look):
-    """Looks at each hall to which some order leads, and at each step from it."""
-    first = Hall(world, needs).saved()
-    seen = {first}
-    waiting = [first]
-    while waiting:
-        saved = waiting.pop()
+    """Looks at each step from each hall to which some order leads."""
+    halls = all_halls(world, needs)
+    for saved in halls:
         for hand in range(len(needs)):
             hall = woken(saved)
             before = states_of(hall, world)
             told = hall.step(hand)
             look(hall, hand, told, before, states_of(hall, world))
-            if hall.saved() not in seen:
-                seen.add(hall.saved())
-                waiting.append(hall.saved())
-    return len(seen)
+    return len(halls)
 
 
 class EachOnce(unittest.TestCase):
@@ -91,9 +83,7 @@ class EachOnce(unittest.TestCase):
         chance = random.Random(11)
         for number in range(150):
             world = random_world(chance, number % 3 < 2)
-            hall = Hall(world, tuple(
-                tuple((chance.randrange(len(world)), chance.choice("abcde")) for need in range(3)) for hand in range(3)
-            ))
+            hall = Hall(world, random_needs(chance, world, 3, 3, 3))
             begun = []
             for step in range(150):
                 hand = chance.randrange(3)
@@ -141,10 +131,7 @@ class WithoutRings(unittest.TestCase):
         chance = random.Random(12)
         for number in range(150):
             world = random_world(chance, False)
-            needs = tuple(
-                tuple((chance.randrange(len(world)), chance.choice("abcde")) for need in range(chance.randrange(1, 3)))
-                for hand in range(2)
-            )
+            needs = random_needs(chance, world, 2)
             for thing in classes(world):
                 self.assertIsNone(ring(world, thing))
             alone = Hall(world, (needs[1] + needs[0],))

@@ -3,7 +3,7 @@ import random
 import unittest
 
 from hall_samples import (
-    crossed_needs, crossed_world, turning_needs, turning_world, until_idle, view,
+    crossed_needs, crossed_world, random_needs, turning_needs, turning_world, until_idle, view,
 )
 from loaders.errors import NoClass, NoHand, NoNeeds, NoWorld
 from loaders.hall import Hall, woken
@@ -19,13 +19,6 @@ C = (0, "c")
 
 def some_needs():
     return (((0, "base"), (1, "ball"), (1, "none")), (), ((3, "base"),))
-
-
-def random_needs(chance, world, hands):
-    return tuple(
-        tuple((chance.randrange(len(world)), chance.choice("abcde")) for number in range(chance.randrange(1, 3)))
-        for hand in range(hands)
-    )
 
 
 class Needs(unittest.TestCase):
